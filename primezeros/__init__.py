@@ -1,0 +1,1 @@
+"""Primezeros: zeros of polynomials over the rests by a prime."""

@@ -1,0 +1,67 @@
+"""FIELDS, rests and POINTS."""
+
+from primezeros.errors import BadField, BadPoint
+
+PRIMES = (2, 3, 5, 7)
+MOST_UNKNOWNS = 4
+MOST_POINTS = 700
+
+
+def is_integer(thing):
+    """Whether a value is an integer."""
+    # To Python, True and False are integers too; to the document they are not.
+    return isinstance(thing, int) and not isinstance(thing, bool)
+
+
+def is_integer_in(thing, least, most):
+    """Whether a value is an integer from least to most."""
+    return is_integer(thing) and least <= thing <= most
+
+
+def is_tuple_of(thing, many):
+    """Whether a value is a tuple of so many items."""
+    return isinstance(thing, tuple) and len(thing) == many
+
+
+def are_rests(prime, thing, many):
+    """Whether a value is a tuple of so many rests."""
+    return is_tuple_of(thing, many) and all([is_integer_in(item, 0, prime - 1) for item in thing])
+
+
+def power_of(number, power):
+    """A number to a power; anything to the power 0 is 1."""
+    result = 1
+    for _ in range(power):
+        result = result * number
+    return result
+
+
+def need_field(thing):
+    """The value itself if it is a FIELD; BadField otherwise."""
+    if not is_tuple_of(thing, 2):
+        raise BadField(())
+    prime, many = thing
+    if not is_integer(prime) or prime not in PRIMES:
+        raise BadField((0,))
+    if not is_integer_in(many, 1, MOST_UNKNOWNS):
+        raise BadField((1,))
+    if power_of(prime, many) > MOST_POINTS:
+        raise BadField(())
+    return thing
+
+
+def need_point(field, thing):
+    """The value itself if it is a POINT of the FIELD; BadPoint otherwise."""
+    prime, many = need_field(field)
+    if not are_rests(prime, thing, many):
+        raise BadPoint(thing)
+    return thing
+
+
+def points(field):
+    """The ascending tuple of all POINTS."""
+    prime, many = need_field(field)
+    begun = [()]
+    for _ in range(many):
+        begun = [point + (item,) for point in begun for item in range(prime)]
+    return tuple(begun)

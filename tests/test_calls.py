@@ -1,0 +1,195 @@
+"""Calls of every function: names, orders of refusals, no other effects ([0], [1], [2], [3])."""
+
+import copy
+import inspect
+import itertools
+import unittest
+
+from primezeros import errors, fields, polys, systems
+from tests.helpers import FIELDS, sample_polys, sample_systems, strange_values, unknown
+
+# Each function with its parameters and what each of them is.
+CALLS = (
+    (fields.need_field, ("thing", "field")),
+    (fields.points, ("field", "field")),
+    (polys.need_poly, ("field", "field"), ("thing", "poly")),
+    (polys.value_at, ("field", "field"), ("poly", "poly"), ("point", "point")),
+    (polys.values, ("field", "field"), ("poly", "poly")),
+    (polys.degree, ("field", "field"), ("poly", "poly")),
+    (polys.reduced, ("field", "field"), ("poly", "poly")),
+    (polys.added, ("field", "field"), ("poly", "poly"), ("other", "poly")),
+    (polys.multiplied, ("field", "field"), ("poly", "poly"), ("other", "poly")),
+    (polys.poly_of, ("field", "field"), ("rests", "rests")),
+    (polys.are_alike, ("field", "field"), ("poly", "poly"), ("other", "poly")),
+    (polys.parting_point, ("field", "field"), ("poly", "poly"), ("other", "poly")),
+    (systems.need_system, ("field", "field"), ("thing", "system")),
+    (systems.zeros, ("field", "field"), ("system", "system")),
+    (systems.count, ("field", "field"), ("system", "system")),
+    (systems.indicator, ("field", "field"), ("system", "system")),
+    (systems.have_alike_zeros, ("field", "field"), ("system", "system"), ("other", "system")),
+    (systems.one_poly, ("field", "field"), ("system", "system")),
+)
+
+REFUSALS = {
+    "field": (errors.BadField, "place"), "poly": (errors.BadPoly, "place"),
+    "point": (errors.BadPoint, "value"), "system": (errors.BadSystem, "place"),
+    "rests": (errors.BadNumber, "value"),
+}
+
+
+def good_argument(field, kind, number):
+    """An argument of a kind; another one for another number."""
+    if kind == "field":
+        return field
+    if kind == "poly":
+        return sample_polys(field)[4 + number]
+    if kind == "system":
+        return sample_systems(field)[number]
+    if kind == "point":
+        return (field[0] - 1,) * field[1]
+    return tuple((at + number) % field[0] for at in range(field[0] ** field[1]))
+
+
+def good_arguments(field, parameters):
+    return [good_argument(field, kind, number) for number, (_, kind) in enumerate(parameters)]
+
+
+def wrong_arguments(kind, parameter):
+    """Values that are refused, each with the field of its exception."""
+    # What is wrong with "other" differs from what is wrong with the argument ahead of it.
+    if kind == "field":
+        return [(None, ()), ((4, 9), (0,)), ((3, 9), (1,)), ((7, 4), ()), ([3, 2], ())]
+    if kind == "poly" and parameter != "other":
+        return [((None,), (0,)), ((((0, 0), 1), ((0, 0), 1)), (1,))]
+    if kind == "system" and parameter != "other":
+        return [((None,), (0,)), ((unknown((3, 2), 0), ()), (1,))]
+    if kind in ("poly", "system"):
+        return [(None, ()), ([], ()), ("x", ()), (True, ())]
+    return [(thing, thing) for thing in (None, "x", [0, 0], (0, True), (3,) * 9, True)]
+
+
+class Calls(unittest.TestCase):
+    def test_every_function_of_the_interface_is_listed(self):
+        listed = {call[0] for call in CALLS}
+        self.assertEqual(len(listed), len(CALLS))
+        self.assertEqual(len(CALLS), 18)
+
+    def test_parameter_names(self):
+        for function, *parameters in CALLS:
+            names = list(inspect.signature(function).parameters)
+            self.assertEqual(names, [name for name, _ in parameters])
+
+    def test_by_position_and_by_name(self):
+        for field in ((2, 1), (3, 2), (5, 4)):
+            for function, *parameters in CALLS:
+                given = good_arguments(field, parameters)
+                wanted = function(*given)
+                named = list(zip([name for name, _ in parameters], given))
+                for order in itertools.permutations(named):
+                    self.assertEqual(function(**dict(order)), wanted)
+                for many in range(1, len(given)):
+                    self.assertEqual(function(*given[:many], **dict(named[many:])), wanted)
+
+    def refused(self, function, parameters, given, at, thing, word):
+        """Checks that a call is refused by what is wrong with the argument at a place."""
+        error, field_name = REFUSALS[parameters[at][1]]
+        for call in (lambda: function(*given),
+                     lambda: function(**dict(reversed(list(zip([name for name, _ in parameters], given)))))):
+            with self.assertRaises(errors.RestError) as caught:
+                call()
+            self.assertIs(type(caught.exception), error)
+            found = getattr(caught.exception, field_name)
+            if field_name == "value":
+                self.assertIs(found, thing)
+            else:
+                self.assertEqual(found, word)
+
+    def test_each_wrong_argument_by_its_own_exception(self):
+        field = (3, 2)
+        for function, *parameters in CALLS:
+            for at, (name, kind) in enumerate(parameters):
+                for thing, word in wrong_arguments(kind, name):
+                    given = good_arguments(field, parameters)
+                    given[at] = thing
+                    self.refused(function, parameters, given, at, thing, word)
+
+    def test_wrong_arguments_of_every_kind(self):
+        field = (3, 2)
+        for function, *parameters in CALLS:
+            for at, (_, kind) in enumerate(parameters):
+                for thing in strange_values():
+                    given = good_arguments(field, parameters)
+                    given[at] = thing
+                    with self.assertRaises(REFUSALS[kind][0]):
+                        function(*given)
+
+    def test_of_several_wrong_arguments_the_first_one(self):
+        field = (3, 2)
+        for function, *parameters in CALLS:
+            for at, (name, kind) in enumerate(parameters):
+                for behind in itertools.product((0, 1), repeat=len(parameters) - at - 1):
+                    thing, word = wrong_arguments(kind, name)[0]
+                    given = good_arguments(field, parameters)
+                    given[at] = thing
+                    for number, choice in enumerate(behind):
+                        later = parameters[at + 1 + number]
+                        if choice:
+                            given[at + 1 + number] = wrong_arguments(later[1], later[0])[0][0]
+                    self.refused(function, parameters, given, at, thing, word)
+
+    def test_true_and_false_are_no_rests(self):
+        for function, *parameters in CALLS:
+            for at, (_, kind) in enumerate(parameters):
+                given = good_arguments((2, 1), parameters)
+                given[at] = {
+                    "field": (2, True), "poly": (((True,), 1),), "point": (True,),
+                    "system": ((((1,), True),),), "rests": (False, True),
+                }[kind]
+                with self.assertRaises(REFUSALS[kind][0]):
+                    function(*given)
+
+
+class NoOtherEffects(unittest.TestCase):
+    def test_what_is_passed_stays_as_it_was(self):
+        for field in ((2, 1), (3, 2), (7, 3)):
+            for function, *parameters in CALLS:
+                given = good_arguments(field, parameters)
+                before = copy.deepcopy(given)
+                function(*given)
+                self.assertEqual(given, before)
+
+    def test_what_is_refused_stays_as_it_was(self):
+        wrong = ([3, 2], {3: [2]}, {"a": {1, 2}}, ([3, 2], [((0, 0), 1)]), {1, 2, 3})
+        for function, *parameters in CALLS:
+            for at in range(len(parameters)):
+                for thing in wrong:
+                    given = good_arguments((3, 2), parameters)
+                    given[at] = copy.deepcopy(thing)
+                    with self.assertRaises(errors.RestError):
+                        function(*given)
+                    self.assertEqual(given[at], thing)
+
+    def test_equal_calls_and_earlier_results(self):
+        for field in FIELDS:
+            first = [function(*good_arguments(field, parameters)) for function, *parameters in CALLS]
+            kept = copy.deepcopy(first)
+            for function, *parameters in reversed(CALLS):
+                with self.assertRaises(errors.RestError):
+                    function(*([None] * len(parameters)))
+                function(*good_arguments((2, 2), parameters))
+            again = [function(*good_arguments(field, parameters)) for function, *parameters in CALLS]
+            self.assertEqual(first, kept)
+            self.assertEqual(again, kept)
+
+    def test_results_are_of_plain_immutable_kinds(self):
+        def kinds(value):
+            if isinstance(value, tuple):
+                return {tuple}.union(*[kinds(item) for item in value])
+            return {type(value)}
+
+        for field in ((2, 1), (3, 2), (5, 4)):
+            for function, *parameters in CALLS:
+                found = kinds(function(*good_arguments(field, parameters)))
+                self.assertLessEqual(found, {tuple, int, bool, type(None)})
+                if bool in found:
+                    self.assertIn(function, (polys.are_alike, systems.have_alike_zeros))

@@ -1,0 +1,23 @@
+"""The examples of DOC.md that speak of the files that are there."""
+
+import unittest
+
+from primezeros.polys import reduced
+from primezeros.systems import count, zeros
+
+
+class Examples(unittest.TestCase):
+    def test_the_count_of_a_square_sum(self):
+        field = (3, 3)
+        system = ((((0, 0, 2), 1), ((0, 2, 0), 1), ((2, 0, 0), 1)),)
+        self.assertEqual(count(field, system), 9)
+        self.assertEqual(len(zeros(field, system)), 9)
+        self.assertEqual(zeros(field, system)[0], (0, 0, 0))
+
+    def test_the_reduced_form(self):
+        self.assertEqual(reduced((3, 1), (((5,), 2),)), (((1,), 2),))
+
+    def test_parted_by_the_prime(self):
+        # The sum of the degrees is less than the number of unknowns.
+        system = ((((0, 0, 0, 1), 2), ((1, 1, 0, 0), 1)), (((0, 0, 1, 0), 3),))
+        self.assertEqual(count((5, 4), system) % 5, 0)
