@@ -28,6 +28,21 @@ def are_rests(prime, thing, many):
     return is_tuple_of(thing, many) and all([is_integer_in(item, 0, prime - 1) for item in thing])
 
 
+def one_alone(many, number):
+    """So many items, 1 with the told number, all others 0."""
+    return (0,) * number + (1,) + (0,) * (many - 1 - number)
+
+
+def is_ascending(things):
+    """Whether each of the items is greater than the one ahead."""
+    return all([one < two for one, two in zip(things, things[1:])])
+
+
+def sum_of_products(prime, ones, others):
+    """The rest that the sum of the products of the items of two rows leaves."""
+    return sum([one * two for one, two in zip(ones, others)]) % prime
+
+
 def power_of(number, power):
     """A number to a power; anything to the power 0 is 1."""
     result = 1
@@ -50,10 +65,15 @@ def need_field(thing):
     return thing
 
 
+def is_point(field, thing):
+    """Whether a value is a POINT of the FIELD."""
+    prime, many = field
+    return are_rests(prime, thing, many)
+
+
 def need_point(field, thing):
     """The value itself if it is a POINT of the FIELD; BadPoint otherwise."""
-    prime, many = need_field(field)
-    if not are_rests(prime, thing, many):
+    if not is_point(need_field(field), thing):
         raise BadPoint(thing)
     return thing
 

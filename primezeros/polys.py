@@ -112,6 +112,25 @@ def parting_point(field, poly, other):
     return None
 
 
+def poly_with_terms(table):
+    """The POLY whose terms are the POWERS and factors of a dict, but for the noughts among them."""
+    return tuple(sorted([(powers, factor) for powers, factor in table.items() if factor != 0]))
+
+
+def lowered_powers(prime, tail, most):
+    """For each power from 0 to most a row of factors of the powers below len(tail) that it is worth.
+
+    The power len(tail) itself is worth the row tail.
+    """
+    row = [1] + [0] * (len(tail) - 1)
+    rows = []
+    for _ in range(most + 1):
+        rows.append(row)
+        last = row[-1]
+        row = [(ahead + last * factor) % prime for ahead, factor in zip([0] + row[:-1], tail)]
+    return rows
+
+
 def _lessened(prime, power):
     """A power, made less by P - 1 until it is at most P - 1."""
     if power == 0:

@@ -58,6 +58,10 @@ def plain_values(field, poly):
     return tuple(plain_value(field, poly, point) for point in plain_points(field))
 
 
+def plain_degree(poly):
+    return max((sum(powers) for powers, _ in poly), default=-1)
+
+
 def plain_reduced(field, poly):
     """The reduced form by the fact: a power of P or more is made less by P - 1, again and again."""
     prime = field[0]
@@ -158,3 +162,18 @@ def sample_systems(field):
                 polys.append(poly)
         systems.append(tuple(polys))
     return systems
+
+
+def sample_boxes(field):
+    """BOXES of a FIELD: of one rest in a place, of all rests, and others. The same for each call."""
+    prime, many = field
+    source = random.Random(prime * 1000 + many)
+    boxes = [
+        ((0,),) * many, ((prime - 1,),) * many, (tuple(range(prime)),) * many,
+        (tuple(range(1, prime)),) * many, ((0, prime - 1),) * many,
+        ((0,),) * (many - 1) + (tuple(range(prime)),), (tuple(range(prime)),) + ((1,),) * (many - 1),
+    ]
+    for _ in range(6):
+        boxes.append(tuple(
+            tuple(sorted(source.sample(range(prime), source.randint(1, prime)))) for _ in range(many)))
+    return boxes

@@ -5,8 +5,8 @@ import inspect
 import itertools
 import unittest
 
-from primezeros import errors, fields, polys, systems
-from tests.helpers import FIELDS, sample_polys, sample_systems, strange_values, unknown
+from primezeros import boxes, errors, fields, hidden, planes, polys, promises, systems
+from tests.helpers import FIELDS, sample_boxes, sample_polys, sample_systems, strange_values, unknown
 
 # Each function with its parameters and what each of them is.
 CALLS = (
@@ -28,13 +28,42 @@ CALLS = (
     (systems.indicator, ("field", "field"), ("system", "system")),
     (systems.have_alike_zeros, ("field", "field"), ("system", "system"), ("other", "system")),
     (systems.one_poly, ("field", "field"), ("system", "system")),
+    (promises.promise, ("field", "field"), ("system", "system")),
+    (promises.top, ("field", "field"), ("system", "system")),
+    (promises.least_zeros, ("field", "field"), ("system", "system")),
+    (promises.norm, ("field", "field"), ("many", "many")),
+    (promises.lonely, ("field", "field"), ("degrees", "degrees")),
+    (promises.is_lonely, ("field", "field"), ("system", "system")),
+    (boxes.rest_in, ("field", "field"), ("poly", "poly"), ("box", "box")),
+    (boxes.alive_point, ("field", "field"), ("poly", "poly"), ("box", "box")),
+    (boxes.is_promised, ("field", "field"), ("poly", "poly"), ("box", "box")),
+    (hidden.depth, ("field", "field"), ("lot", "lot"), ("point", "point")),
+    (hidden.depth_paper, ("field", "field"), ("lot", "lot"), ("point", "point")),
+    (hidden.check_depth, ("field", "field"), ("lot", "lot"), ("point", "point"), ("paper", "paper")),
+    (planes.uncovered, ("field", "field"), ("planes", "planes")),
+    (planes.cover, ("field", "field")),
+    (planes.is_cover, ("field", "field"), ("value", "any")),
 )
 
 REFUSALS = {
     "field": (errors.BadField, "place"), "poly": (errors.BadPoly, "place"),
     "point": (errors.BadPoint, "value"), "system": (errors.BadSystem, "place"),
-    "rests": (errors.BadNumber, "value"),
+    "rests": (errors.BadNumber, "value"), "many": (errors.BadNumber, "value"),
+    "degrees": (errors.BadNumber, "value"), "box": (errors.BadBox, "value"), "lot": (errors.BadLot, "value"),
+    "paper": (errors.BadPaper, "word"), "planes": (errors.BadPlanes, "place"),
 }
+
+
+def calls_in(field):
+    """The CALLS that can be made in a FIELD of that many POINTS."""
+    if field[0] ** field[1] <= 130:
+        return CALLS
+    return tuple(call for call in CALLS if call[0].__module__ != "primezeros.hidden")
+
+
+def refusable(parameters):
+    """The places and kinds of the parameters for which some values are refused."""
+    return [(at, name, kind) for at, (name, kind) in enumerate(parameters) if kind != "any"]
 
 
 def good_argument(field, kind, number):
@@ -47,6 +76,19 @@ def good_argument(field, kind, number):
         return sample_systems(field)[number]
     if kind == "point":
         return (field[0] - 1,) * field[1]
+    if kind == "lot":
+        # Of all POINTS, that of the kind "point" is the last one.
+        return fields.points(field)[:-1]
+    if kind == "paper":
+        return hidden.depth_paper(field, good_argument(field, "lot", 1), good_argument(field, "point", 2))
+    if kind == "box":
+        return sample_boxes(field)[-1]
+    if kind == "many":
+        return field[1]
+    if kind == "degrees":
+        return (1, field[1], 8)
+    if kind in ("planes", "any"):
+        return planes.cover(field)[number:]
     return tuple((at + number) % field[0] for at in range(field[0] ** field[1]))
 
 
@@ -63,6 +105,14 @@ def wrong_arguments(kind, parameter):
         return [((None,), (0,)), ((((0, 0), 1), ((0, 0), 1)), (1,))]
     if kind == "system" and parameter != "other":
         return [((None,), (0,)), ((unknown((3, 2), 0), ()), (1,))]
+    if kind == "paper":
+        return [
+            (None, "form"), ((), "form"), ([(), ()], "form"), (((), ()), "poly"), ((None, None), "poly"),
+            ((hidden.depth_paper((3, 2), fields.points((3, 2))[:-1], (2, 2))[0], ()), "weights"),
+        ]
+    if kind == "planes":
+        good = planes.cover((3, 2))
+        return [(good + (None,), (4,)), (None, ()), (list(good), ()), (good * 16, ()), ((((0, 0), 1),), (0,))]
     if kind in ("poly", "system"):
         return [(None, ()), ([], ()), ("x", ()), (True, ())]
     return [(thing, thing) for thing in (None, "x", [0, 0], (0, True), (3,) * 9, True)]
@@ -72,7 +122,7 @@ class Calls(unittest.TestCase):
     def test_every_function_of_the_interface_is_listed(self):
         listed = {call[0] for call in CALLS}
         self.assertEqual(len(listed), len(CALLS))
-        self.assertEqual(len(CALLS), 18)
+        self.assertEqual(len(CALLS), 33)
 
     def test_parameter_names(self):
         for function, *parameters in CALLS:
@@ -81,7 +131,7 @@ class Calls(unittest.TestCase):
 
     def test_by_position_and_by_name(self):
         for field in ((2, 1), (3, 2), (5, 4)):
-            for function, *parameters in CALLS:
+            for function, *parameters in calls_in(field):
                 given = good_arguments(field, parameters)
                 wanted = function(*given)
                 named = list(zip([name for name, _ in parameters], given))
@@ -107,7 +157,7 @@ class Calls(unittest.TestCase):
     def test_each_wrong_argument_by_its_own_exception(self):
         field = (3, 2)
         for function, *parameters in CALLS:
-            for at, (name, kind) in enumerate(parameters):
+            for at, name, kind in refusable(parameters):
                 for thing, word in wrong_arguments(kind, name):
                     given = good_arguments(field, parameters)
                     given[at] = thing
@@ -116,8 +166,10 @@ class Calls(unittest.TestCase):
     def test_wrong_arguments_of_every_kind(self):
         field = (3, 2)
         for function, *parameters in CALLS:
-            for at, (_, kind) in enumerate(parameters):
+            for at, _, kind in refusable(parameters):
                 for thing in strange_values():
+                    if kind == "many" and type(thing) is int and thing in (1, 2):
+                        continue
                     given = good_arguments(field, parameters)
                     given[at] = thing
                     with self.assertRaises(REFUSALS[kind][0]):
@@ -126,24 +178,28 @@ class Calls(unittest.TestCase):
     def test_of_several_wrong_arguments_the_first_one(self):
         field = (3, 2)
         for function, *parameters in CALLS:
-            for at, (name, kind) in enumerate(parameters):
+            for at, name, kind in refusable(parameters):
                 for behind in itertools.product((0, 1), repeat=len(parameters) - at - 1):
                     thing, word = wrong_arguments(kind, name)[0]
                     given = good_arguments(field, parameters)
                     given[at] = thing
                     for number, choice in enumerate(behind):
                         later = parameters[at + 1 + number]
-                        if choice:
+                        if choice and later[1] == "any":
+                            given[at + 1 + number] = None
+                        elif choice:
                             given[at + 1 + number] = wrong_arguments(later[1], later[0])[0][0]
                     self.refused(function, parameters, given, at, thing, word)
 
     def test_true_and_false_are_no_rests(self):
         for function, *parameters in CALLS:
-            for at, (_, kind) in enumerate(parameters):
+            for at, _, kind in refusable(parameters):
                 given = good_arguments((2, 1), parameters)
                 given[at] = {
                     "field": (2, True), "poly": (((True,), 1),), "point": (True,),
                     "system": ((((1,), True),),), "rests": (False, True),
+                    "many": True, "degrees": (True,), "box": ((False, True),), "lot": ((False,),),
+                    "planes": (((1,), True),), "paper": ((((1,), 1),), (((0,), 1), ((1,), True))),
                 }[kind]
                 with self.assertRaises(REFUSALS[kind][0]):
                     function(*given)
@@ -152,7 +208,7 @@ class Calls(unittest.TestCase):
 class NoOtherEffects(unittest.TestCase):
     def test_what_is_passed_stays_as_it_was(self):
         for field in ((2, 1), (3, 2), (7, 3)):
-            for function, *parameters in CALLS:
+            for function, *parameters in calls_in(field):
                 given = good_arguments(field, parameters)
                 before = copy.deepcopy(given)
                 function(*given)
@@ -161,7 +217,7 @@ class NoOtherEffects(unittest.TestCase):
     def test_what_is_refused_stays_as_it_was(self):
         wrong = ([3, 2], {3: [2]}, {"a": {1, 2}}, ([3, 2], [((0, 0), 1)]), {1, 2, 3})
         for function, *parameters in CALLS:
-            for at in range(len(parameters)):
+            for at, _, _ in refusable(parameters):
                 for thing in wrong:
                     given = good_arguments((3, 2), parameters)
                     given[at] = copy.deepcopy(thing)
@@ -171,15 +227,22 @@ class NoOtherEffects(unittest.TestCase):
 
     def test_equal_calls_and_earlier_results(self):
         for field in FIELDS:
-            first = [function(*good_arguments(field, parameters)) for function, *parameters in CALLS]
+            calls = calls_in(field)
+            first = [function(*good_arguments(field, parameters)) for function, *parameters in calls]
             kept = copy.deepcopy(first)
-            for function, *parameters in reversed(CALLS):
+            for function, *parameters in reversed(calls):
                 with self.assertRaises(errors.RestError):
                     function(*([None] * len(parameters)))
                 function(*good_arguments((2, 2), parameters))
-            again = [function(*good_arguments(field, parameters)) for function, *parameters in CALLS]
+            again = [function(*good_arguments(field, parameters)) for function, *parameters in calls]
             self.assertEqual(first, kept)
             self.assertEqual(again, kept)
+
+    def test_any_value_stays_as_it_was(self):
+        for thing in ([planes.cover((3, 2))], {3: [2]}, ([3, 2], {1}), (((0, 1), 1), [((1, 0), 1)])):
+            given = copy.deepcopy(thing)
+            self.assertIs(planes.is_cover((3, 2), given), False)
+            self.assertEqual(given, thing)
 
     def test_results_are_of_plain_immutable_kinds(self):
         def kinds(value):
@@ -188,8 +251,11 @@ class NoOtherEffects(unittest.TestCase):
             return {type(value)}
 
         for field in ((2, 1), (3, 2), (5, 4)):
-            for function, *parameters in CALLS:
+            for function, *parameters in calls_in(field):
                 found = kinds(function(*good_arguments(field, parameters)))
                 self.assertLessEqual(found, {tuple, int, bool, type(None)})
                 if bool in found:
-                    self.assertIn(function, (polys.are_alike, systems.have_alike_zeros))
+                    self.assertIn(function, (
+                        polys.are_alike, systems.have_alike_zeros, promises.is_lonely, boxes.is_promised,
+                        planes.is_cover,
+                    ))

@@ -2,7 +2,10 @@
 
 import unittest
 
+from primezeros.hidden import depth
+from primezeros.planes import cover
 from primezeros.polys import reduced
+from primezeros.promises import is_lonely, lonely, promise, top
 from primezeros.systems import count, zeros
 
 
@@ -13,6 +16,18 @@ class Examples(unittest.TestCase):
         self.assertEqual(count(field, system), 9)
         self.assertEqual(len(zeros(field, system)), 9)
         self.assertEqual(zeros(field, system)[0], (0, 0, 0))
+
+    def test_the_promise_of_a_square_sum(self):
+        field = (3, 3)
+        system = ((((0, 0, 2), 1), ((0, 2, 0), 1), ((2, 0, 0), 1)),)
+        self.assertEqual((promise(field, system), count(field, system), top(field, system)), (1, 9, 0))
+
+    def test_lonely_systems(self):
+        field = (3, 3)
+        self.assertEqual((is_lonely(field, lonely(field, (2, 1))), lonely(field, (2,))), (True, None))
+
+    def test_a_depth_and_a_cover(self):
+        self.assertEqual((depth((3, 1), ((0,), (1,)), (2,)), len(cover((5, 2)))), (2, 8))
 
     def test_the_reduced_form(self):
         self.assertEqual(reduced((3, 1), (((5,), 2),)), (((1,), 2),))

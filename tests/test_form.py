@@ -22,6 +22,10 @@ INTERFACE = {
         "are_alike", "parting_point",
     ),
     "systems": ("need_system", "zeros", "count", "indicator", "have_alike_zeros", "one_poly"),
+    "promises": ("promise", "top", "least_zeros", "norm", "lonely", "is_lonely"),
+    "boxes": ("rest_in", "alive_point", "is_promised"),
+    "hidden": ("depth", "depth_paper", "check_depth"),
+    "planes": ("uncovered", "cover", "is_cover"),
 }
 
 LIBRARY = {
@@ -124,6 +128,16 @@ class Language(unittest.TestCase):
                 package, _, file = node.module.partition(".")
                 self.assertEqual(package, "primezeros", place)
                 self.assertIn(each.name, bound_names(told[file]), place)
+
+    def test_no_local_name_is_that_of_an_import_or_a_class(self):
+        for name, tree in trees():
+            taken = {each.name for node in tree.body if isinstance(node, ast.ImportFrom) for each in node.names}
+            taken |= {node.name for node in tree.body if isinstance(node, ast.ClassDef)}
+            for node in ast.walk(tree):
+                if isinstance(node, ast.Name) and isinstance(node.ctx, ast.Store):
+                    self.assertNotIn(node.id, taken, (name, node.lineno))
+                if isinstance(node, ast.arg):
+                    self.assertNotIn(node.arg, taken, (name, node.lineno))
 
     def test_no_state_and_no_call_at_module_level(self):
         plain = (ast.FunctionDef, ast.ClassDef, ast.ImportFrom, ast.Assign)
