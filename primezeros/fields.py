@@ -18,6 +18,11 @@ def is_integer_in(thing, least, most):
     return is_integer(thing) and least <= thing <= most
 
 
+def is_prime(thing):
+    """Whether a value is one of the primes."""
+    return is_integer(thing) and thing in PRIMES
+
+
 def is_tuple_of(thing, many):
     """Whether a value is a tuple of so many items."""
     return isinstance(thing, tuple) and len(thing) == many
@@ -56,7 +61,7 @@ def need_field(thing):
     if not is_tuple_of(thing, 2):
         raise BadField(())
     prime, many = thing
-    if not is_integer(prime) or prime not in PRIMES:
+    if not is_prime(prime):
         raise BadField((0,))
     if not is_integer_in(many, 1, MOST_UNKNOWNS):
         raise BadField((1,))

@@ -7,6 +7,11 @@ FIELDS = tuple(
     (prime, many) for prime in (2, 3, 5, 7) for many in (1, 2, 3, 4) if prime ** many <= 700
 )
 
+# Values that are no FIELD, each with the place at which it is none.
+WRONG_FIELDS = (
+    (None, ()), ((4, 1), (0,)), ((3, 0), (1,)), ((7, 4), ()), ([2, 1], ()), ((True, 1), (0,)), ((2, True), (1,)),
+)
+
 
 class Odd:
     """An object of a class of its own."""

@@ -5,7 +5,7 @@ import inspect
 import itertools
 import unittest
 
-from primezeros import boxes, errors, fields, hidden, planes, polys, promises, systems
+from primezeros import boxes, desk, errors, fields, hidden, live, planes, polys, promises, sums, systems, texts
 from tests.helpers import FIELDS, sample_boxes, sample_polys, sample_systems, strange_values, unknown
 
 # Each function with its parameters and what each of them is.
@@ -43,6 +43,13 @@ CALLS = (
     (planes.uncovered, ("field", "field"), ("planes", "planes")),
     (planes.cover, ("field", "field")),
     (planes.is_cover, ("field", "field"), ("value", "any")),
+    (sums.nought_lot, ("prime", "prime"), ("vectors", "vectors")),
+    (sums.many_nought_lots, ("prime", "prime"), ("vectors", "vectors")),
+    (sums.even_lot, ("prime", "prime"), ("rests", "few rests")),
+    (sums.sure_many, ("prime", "prime"), ("long", "long")),
+    (texts.poly_text, ("field", "field"), ("poly", "poly")),
+    (texts.point_text, ("field", "field"), ("point", "point")),
+    (texts.read_poly, ("field", "field"), ("text", "text")),
 )
 
 REFUSALS = {
@@ -51,6 +58,13 @@ REFUSALS = {
     "rests": (errors.BadNumber, "value"), "many": (errors.BadNumber, "value"),
     "degrees": (errors.BadNumber, "value"), "box": (errors.BadBox, "value"), "lot": (errors.BadLot, "value"),
     "paper": (errors.BadPaper, "word"), "planes": (errors.BadPlanes, "place"),
+    "prime": (errors.BadNumber, "value"), "vectors": (errors.BadVectors, "place"),
+    "few rests": (errors.BadVectors, "place"), "long": (errors.BadNumber, "value"), "text": (errors.BadText, "part"),
+}
+
+# Of the values of every kind, those that a parameter of a kind takes, or refuses by another exception.
+TAKEN = {
+    "many": (1, 2), "prime": (2, 3, 7), "long": (1, 2, 3), "text": ("21",), "few rests": ((2, 1, 1, 1, 1, 1),),
 }
 
 
@@ -89,6 +103,16 @@ def good_argument(field, kind, number):
         return (1, field[1], 8)
     if kind in ("planes", "any"):
         return planes.cover(field)[number:]
+    if kind == "prime":
+        return field[0]
+    if kind == "vectors":
+        return ((1, field[0] - 1), (0, 1), (1, 1))[:number + 2]
+    if kind == "few rests":
+        return (1, 0, 1) * 4
+    if kind == "long":
+        return 2
+    if kind == "text":
+        return "1*x0^2 + 1"
     return tuple((at + number) % field[0] for at in range(field[0] ** field[1]))
 
 
@@ -113,6 +137,12 @@ def wrong_arguments(kind, parameter):
     if kind == "planes":
         good = planes.cover((3, 2))
         return [(good + (None,), (4,)), (None, ()), (list(good), ()), (good * 16, ()), ((((0, 0), 1),), (0,))]
+    if kind == "vectors":
+        return [(((0, 1), (0, 1, 1)), (1,)), (None, ()), (((0,),) * 14, ()), (((0, 9),), (0,)), ([(0,)], ())]
+    if kind == "few rests":
+        return [((0, 1, 9), (2,)), (None, ()), ((0,) * 14, ()), ((True,), (0,)), ([0], ())]
+    if kind == "text":
+        return [("1 + x", 1), ("", 0), (None, None), (b"1", None), ("1 + 1", 1), (["0"], None)]
     if kind in ("poly", "system"):
         return [(None, ()), ([], ()), ("x", ()), (True, ())]
     return [(thing, thing) for thing in (None, "x", [0, 0], (0, True), (3,) * 9, True)]
@@ -122,7 +152,7 @@ class Calls(unittest.TestCase):
     def test_every_function_of_the_interface_is_listed(self):
         listed = {call[0] for call in CALLS}
         self.assertEqual(len(listed), len(CALLS))
-        self.assertEqual(len(CALLS), 33)
+        self.assertEqual(len(CALLS), 40)
 
     def test_parameter_names(self):
         for function, *parameters in CALLS:
@@ -168,7 +198,7 @@ class Calls(unittest.TestCase):
         for function, *parameters in CALLS:
             for at, _, kind in refusable(parameters):
                 for thing in strange_values():
-                    if kind == "many" and type(thing) is int and thing in (1, 2):
+                    if type(thing) in (int, str, tuple) and thing in TAKEN.get(kind, ()):
                         continue
                     given = good_arguments(field, parameters)
                     given[at] = thing
@@ -200,6 +230,7 @@ class Calls(unittest.TestCase):
                     "system": ((((1,), True),),), "rests": (False, True),
                     "many": True, "degrees": (True,), "box": ((False, True),), "lot": ((False,),),
                     "planes": (((1,), True),), "paper": ((((1,), 1),), (((0,), 1), ((1,), True))),
+                    "prime": True, "vectors": ((True,),), "few rests": (False, True), "long": True, "text": True,
                 }[kind]
                 with self.assertRaises(REFUSALS[kind][0]):
                     function(*given)
@@ -253,9 +284,98 @@ class NoOtherEffects(unittest.TestCase):
         for field in ((2, 1), (3, 2), (5, 4)):
             for function, *parameters in calls_in(field):
                 found = kinds(function(*good_arguments(field, parameters)))
-                self.assertLessEqual(found, {tuple, int, bool, type(None)})
+                self.assertLessEqual(found, {tuple, int, bool, str, type(None)})
+                if str in found:
+                    self.assertIn(function, (texts.poly_text, texts.point_text))
                 if bool in found:
                     self.assertIn(function, (
                         polys.are_alike, systems.have_alike_zeros, promises.is_lonely, boxes.is_promised,
                         planes.is_cover,
                     ))
+
+
+def begun():
+    """A Live with two conditions and three deeds."""
+    one = live.Live((3, 2))
+    one.put(unknown((3, 2), 0), "zero")
+    one.put(unknown((3, 2), 1, 2), "other")
+    one.turn(1)
+    return one
+
+
+class Methods(unittest.TestCase):
+    # Each method with its arguments by name.
+    TAKES = (
+        ("put", {"poly": unknown((3, 2), 1), "sign": "other"}), ("strike", {"number": 0}), ("turn", {"number": 1}),
+        ("conditions", {}), ("holding", {}), ("holds", {"point": (0, 1)}), ("promise", {}), ("undo", {}), ("copy", {}),
+        ("trial", {}),
+    )
+
+    def test_parameter_names(self):
+        for function, names in [(getattr(live.Live, name), ["self", *takes]) for name, takes in self.TAKES] + [
+            (live.Live.__init__, ["self", "field"]), (live.under, ["manager", "deed"]),
+            (desk.Desk.__init__, ["self", "field"]), (desk.Desk.say, ["self", "line"]),
+        ]:
+            self.assertEqual(list(inspect.signature(function).parameters), names)
+
+    def test_by_position_and_by_name(self):
+        for name, takes in self.TAKES:
+            one = begun()
+            wanted = getattr(one, name)(*takes.values())
+            for order in itertools.permutations(takes.items()):
+                for many in range(len(order) + 1):
+                    other = begun()
+                    if many and list(order) != list(takes.items()):
+                        continue
+                    told = getattr(other, name)(*list(takes.values())[:many], **dict(order[many:]))
+                    if name != "trial":
+                        self.assertEqual(told, wanted)
+                    self.assertEqual(other, one)
+        self.assertEqual(live.Live(field=(3, 2)), live.Live((3, 2)))
+        self.assertEqual(desk.Desk(field=(3, 2)).live, live.Live((3, 2)))
+        self.assertEqual(desk.Desk((3, 2)).say(line="many"), "9")
+
+    def test_for_which_no_result_is_told(self):
+        for name in ("put", "strike", "turn", "undo"):
+            self.assertIsNone(getattr(begun(), name)(*dict(self.TAKES)[name].values()))
+
+    def test_equal_calls_and_earlier_results(self):
+        one = begun()
+        asked = [(name, takes) for name, takes in self.TAKES if name in ("conditions", "holding", "holds", "promise")]
+        first = [getattr(one, name)(**takes) for name, takes in asked]
+        kept = copy.deepcopy(first)
+        self.assertEqual([getattr(one, name)(**takes) for name, takes in asked], kept)
+        one.strike(0)
+        one.turn(0)
+        self.assertEqual(first, kept)
+        one.undo()
+        one.undo()
+        self.assertEqual([getattr(one, name)(**takes) for name, takes in asked], kept)
+
+    def test_results_are_of_plain_immutable_kinds(self):
+        one = begun()
+        self.assertIs(type(one.conditions()), tuple)
+        self.assertTrue(all(type(row) is tuple and len(row) == 2 for row in one.conditions()))
+        self.assertIs(type(one.holding()), tuple)
+        self.assertIs(type(one.holds((0, 0))), bool)
+        self.assertIs(type(one == one), bool)
+        self.assertIs(type(len(one)), int)
+        self.assertIs(type(one.promise()), int)
+        self.assertIs(type(one.field), tuple)
+        for line in ("many", "first", "promise", "field", "conditions", "holds 0 0", "x", None):
+            self.assertIs(type(desk.Desk((3, 2)).say(line)), str)
+
+    def test_what_is_passed_stays_as_it_was(self):
+        for thing in ([unknown((3, 2), 0)], [1], {"zero": [1]}, {1: {2}}, {1, 2}):
+            for call in (
+                lambda given: begun().put(given, "zero"), lambda given: begun().put(unknown((3, 2), 0), given),
+                lambda given: begun().strike(given), lambda given: begun().turn(given),
+                lambda given: begun().holds(given), lambda given: live.Live(given), lambda given: desk.Desk(given),
+            ):
+                given = copy.deepcopy(thing)
+                with self.assertRaises(errors.RestError):
+                    call(given)
+                self.assertEqual(given, thing)
+            given = copy.deepcopy(thing)
+            self.assertEqual(desk.Desk((3, 2)).say(given), "no")
+            self.assertEqual(given, thing)

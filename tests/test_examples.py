@@ -1,4 +1,4 @@
-"""The examples of DOC.md that speak of the files that are there."""
+"""The examples of DOC.md."""
 
 import unittest
 
@@ -6,7 +6,9 @@ from primezeros.hidden import depth
 from primezeros.planes import cover
 from primezeros.polys import reduced
 from primezeros.promises import is_lonely, lonely, promise, top
+from primezeros.sums import even_lot, nought_lot, sure_many
 from primezeros.systems import count, zeros
+from primezeros.texts import poly_text, read_poly
 
 
 class Examples(unittest.TestCase):
@@ -28,6 +30,14 @@ class Examples(unittest.TestCase):
 
     def test_a_depth_and_a_cover(self):
         self.assertEqual((depth((3, 1), ((0,), (1,)), (2,)), len(cover((5, 2)))), (2, 8))
+
+    def test_lots(self):
+        told = even_lot(3, (1, 1, 0, 0, 1)), nought_lot(2, ((1, 0), (0, 1), (1, 1))), sure_many(5, 3)
+        self.assertEqual(told, ((0, 1, 4), (0, 1, 2), 13))
+
+    def test_a_text(self):
+        self.assertEqual(poly_text((3, 2), (((0, 0), 2), ((2, 1), 1))), "2 + 1*x0^2*x1")
+        self.assertEqual(read_poly((3, 2), "2 + 1*x0^2*x1"), (((0, 0), 2), ((2, 1), 1)))
 
     def test_the_reduced_form(self):
         self.assertEqual(reduced((3, 1), (((5,), 2),)), (((1,), 2),))

@@ -26,6 +26,18 @@ INTERFACE = {
     "boxes": ("rest_in", "alive_point", "is_promised"),
     "hidden": ("depth", "depth_paper", "check_depth"),
     "planes": ("uncovered", "cover", "is_cover"),
+    "sums": ("nought_lot", "many_nought_lots", "even_lot", "sure_many"),
+    "live": ("Live", "under"),
+    "texts": ("poly_text", "point_text", "read_poly"),
+    "desk": ("Desk",),
+}
+
+METHODS = {
+    ("live", "Live"): (
+        "__init__", "field", "put", "strike", "turn", "conditions", "holding", "holds", "promise", "__len__", "undo",
+        "copy", "__eq__", "trial",
+    ),
+    ("desk", "Desk"): ("__init__", "live", "say"),
 }
 
 LIBRARY = {
@@ -169,3 +181,15 @@ class Interface(unittest.TestCase):
             for name in names:
                 self.assertIn(name, bound_names(told[file + ".py"]))
                 self.assertEqual(getattr(module, name).__module__, "primezeros." + file)
+
+    def test_each_method_is_defined_in_its_class(self):
+        told = dict(trees())
+        for (file, name), methods in METHODS.items():
+            for node in told[file + ".py"].body:
+                if isinstance(node, ast.ClassDef) and node.name == name:
+                    here = [part.name for part in node.body if isinstance(part, ast.FunctionDef)]
+                    self.assertEqual(len(here), len(set(here)))
+                    self.assertLessEqual(set(methods), set(here))
+                    break
+            else:
+                self.fail((file, name))
