@@ -27,6 +27,7 @@ def read_poly(field, text):
     if not isinstance(text, str):
         raise BadText(None)
     if text == "0":
+        # Only the whole text tells the empty POLY: beside other parts "0" is a term, with a factor that is refused.
         return ()
     terms = _read_terms(many, text.split(" + "))
     seen = set()
@@ -74,8 +75,7 @@ def _read_term(many, part):
     pieces = part.split("*")
     first, *words = pieces
     factor = read_number(first, 2)
-    # The part "0" stands alone in its text or not at all; alone, it is no term.
-    if factor is None or part == "0":
+    if factor is None:
         return None
     powers = [0] * many
     least = 0

@@ -191,14 +191,14 @@ class NoText(unittest.TestCase):
                 text = "1" + "".join(f"*x{number}" for number in numbers)
                 self.assertEqual(bad_text(field, text), "other" if ascending else 0)
 
-    def test_nought_beside_others(self):
+    def test_nought_beside_others_has_the_form(self):
         for field in FIELDS:
             self.assertEqual(read_poly(field, "0"), ())
-            self.assertEqual(bad_text(field, "0 + 1"), 0)
-            self.assertEqual(bad_text(field, "1 + 0"), 1)
-            self.assertEqual(bad_text(field, "0 + 0"), 0)
-            self.assertEqual(bad_text(field, "1*x0 + 1 + 0 + 1*x0^2"), 2)
-            self.assertEqual(bad_text(field, "1*x0 + 0 + x"), 1)
+            for text, part in (
+                ("0 + x", 1), ("x + 0", 0), ("0 + 07", 1), ("0 + 00", 1), ("00 + 0", 0), ("0 + 0 + 01", 2),
+                ("1*x0 + 0 + x", 2), ("0 + ", 1), (" + 0", 0), ("0 + 0 ", 1), ("0 + 1*x0^1", 1), ("0 0", 0),
+            ):
+                self.assertEqual(bad_text(field, text), part, text)
 
     def test_spaces_and_signs_between(self):
         field = (3, 2)
@@ -244,6 +244,21 @@ class BehindTheForm(unittest.TestCase):
             self.assertEqual(bad_poly(field, "0*x0 + 1"), (1,))
             self.assertEqual(bad_poly(field, "1*x0^2 + 0*x0 + 1"), (1,))
             self.assertEqual(bad_poly(field, "0*x0 + 0*x0^2 + 1*x0^3"), (0,))
+
+    def test_nought_beside_others(self):
+        for field in FIELDS:
+            # Its POWERS are those of the constant term.
+            for text, part in (
+                ("0 + 1", 1), ("1 + 0", 1), ("0 + 0", 1), ("0 + 0 + 0", 1), ("0 + 99", 1), ("1*x0 + 0 + 0*x0", 2),
+                ("1*x0 + 1 + 0 + 1*x0^2", 2), ("0 + 1*x0 + 1*x0^2 + 1", 3), ("0 + 1*x0^99 + 1*x0^99 + 0", 2),
+            ):
+                self.assertEqual(bad_text(field, text), part, text)
+            # No other term is ahead of it.
+            for text in (
+                "1*x0 + 0", "0 + 1*x0", "0 + 0*x0", "1*x0^2 + 0 + 1*x0", "99*x0 + 0", "0 + 1*x0^99", "1*x0^30 + 0",
+            ):
+                self.assertEqual(bad_poly(field, text), (0,), text)
+        self.assertEqual(bad_poly((2, 2), plain_text(most_terms((2, 2), 701)[1:]) + " + 0"), ())
 
     def test_a_factor_of_p_or_more(self):
         for field in FIELDS:
